@@ -1,0 +1,124 @@
+package press
+
+import (
+	"slices"
+	"strings"
+	"sync"
+	"testing"
+
+	"press/api"
+)
+
+// oddTexts are texts that are wrong in many ways, some grammars among them.
+func oddTexts() []string {
+	texts := []string{"", "A", "A=", "A=A", "A=B;B=A", "A=(h1ara)", "\xff\xfe", "ä", strings.Repeat("x", 100000),
+		strings.Repeat("(", 5000), "A=" + strings.Repeat("(", 398), "A=" + strings.Repeat("*", 397) + "A",
+		"A=" + strings.Repeat("@a", 199), strings.Repeat("A=A;", 100), strings.Repeat("[", 8000), "(((", "/0", "\""}
+	for b := range 256 {
+		texts = append(texts, string([]byte{byte(b)}), "A="+string([]byte{byte(b)}), "A=("+string([]byte{byte(b)})+")")
+	}
+	return texts
+}
+
+// TestNoCallPanics: P1, whatever the calls are given.
+func TestNoCallPanics(t *testing.T) {
+	numbers := []int{-1 << 63, -1, 0, 1, 400, 100001, 1<<63 - 1}
+	for _, text := range oddTexts() {
+		Check(text)
+		UnpackNames(text)
+		PackNames([]string{text, text})
+		for _, n := range numbers {
+			Parse(text, text, n, n)
+			Parse("A=n1", text, n, n)
+			Generate(text, text, n)
+			Generate("A=n1", text, n)
+		}
+	}
+	PackNames(nil)
+	PackNames(make([]string, 1000))
+}
+
+// TestCheckAtEveryCut: a grammar that is cut, with any byte behind the cut.
+func TestCheckAtEveryCut(t *testing.T) {
+	for _, whole := range []string{eightRules, "A=(h1ah2bk3ck4dwa@bsctd/'0f*(h1ara).);B=/A*B;C=(l2n3)"} {
+		for n := range len(whole) + 1 {
+			for b := range 256 {
+				wantFitPlace(t, whole[:n]+string([]byte{byte(b)}))
+			}
+		}
+	}
+}
+
+// wantFitPlace: the place is one of the text's; where the form is wrong, what
+// stands ahead of the place could go on, and what stands behind is nothing to it.
+func wantFitPlace(t *testing.T, text string) {
+	t.Helper()
+	e, place := Check(text)
+	if e == api.OK && place != 0 || place < 0 || place > len(text) {
+		t.Errorf("Check(%q) = %d, %d", text, e, place)
+		return
+	}
+	if e != api.ErrForm {
+		return
+	}
+	if cut, at := Check(text[:place]); cut == api.ErrForm && at != place {
+		t.Errorf("Check(%q) = %d, %d, but cut there %d, %d", text, e, place, cut, at)
+	}
+	if place < len(text) {
+		wantChecks(t, []checked{{text + ";A=B", api.ErrForm, place}})
+	}
+}
+
+// TestCheckHangsOnItsArgumentAlone: P2, in any order and many at a time.
+func TestCheckHangsOnItsArgumentAlone(t *testing.T) {
+	texts := oddTexts()
+	want := make([]checked, len(texts))
+	for i, text := range texts {
+		e, place := Check(text)
+		want[i] = checked{text, e, place}
+	}
+	var group sync.WaitGroup
+	for range 4 {
+		group.Go(func() {
+			for _, c := range slices.Backward(want) {
+				if e, place := Check(c.grammar); e != c.e || place != c.place {
+					t.Errorf("Check(%.40q) = %d, %d, but %d, %d before", c.grammar, e, place, c.e, c.place)
+				}
+			}
+		})
+	}
+	group.Wait()
+}
+
+// TestCheckOfAPiece: what stands around a text in memory is nothing to it.
+func TestCheckOfAPiece(t *testing.T) {
+	around := "A=n1;A=(h1ara);B=n1"
+	wantChecks(t, []checked{{around[5:14], api.OK, 0}, {around[5:13], api.ErrForm, 8}, {around[:3], api.ErrForm, 3}, {around[:4], api.OK, 0}})
+}
+
+// TestListsAreLeftAlone: P2, what is handed in and its spare room.
+func TestListsAreLeftAlone(t *testing.T) {
+	room := []string{"a.b", "c.b", "b", "spare", "room"}
+	before := slices.Clone(room)
+	PackNames(room[:3])
+	PackNames(room[:0])
+	if !slices.Equal(room, before) {
+		t.Errorf("PackNames left %q of %q", room, before)
+	}
+}
+
+// TestAnswersAreTheCallers: P2, who may write into what comes out.
+func TestAnswersAreTheCallers(t *testing.T) {
+	const packed = "\x01a\x01b\x00\x01c\xc0\x02\xc0\x02"
+	first, _, _ := UnpackNames(packed)
+	want := slices.Clone(first)
+	first = first[:cap(first)]
+	second, _, _ := UnpackNames(packed)
+	for i := range first {
+		first[i] = "written"
+	}
+	third, _, _ := UnpackNames(packed)
+	if !slices.Equal(second, want) || !slices.Equal(third, want) {
+		t.Errorf("UnpackNames answered %q, then %q and %q", want, second, third)
+	}
+}

@@ -1,0 +1,27 @@
+// Package press: one grammar for bytes, gone both ways: see DOC.md.
+package press
+
+import (
+	"press/api"
+	"press/syntax"
+)
+
+// Check tells whether a text is a grammar (P3).
+func Check(grammar string) (api.Errno, int) {
+	_, e, place := syntax.Read(grammar)
+	return e, place
+}
+
+// Parse makes a tree of bytes (P4).
+func Parse(grammar string, bytes string, fuel int, nodes int) (string, api.Errno, int) {
+	return "", api.OK, 0
+}
+
+// Generate makes bytes of a tree (P5).
+func Generate(grammar string, tree string, most int) (string, api.Errno, int) { return "", api.OK, 0 }
+
+// PackNames packs names (P6).
+func PackNames(names []string) (string, api.Errno) { return "", api.OK }
+
+// UnpackNames reads packed names (P7).
+func UnpackNames(bytes string) ([]string, api.Errno, int) { return nil, api.OK, 0 }
