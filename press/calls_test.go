@@ -90,6 +90,31 @@ func TestCheckHangsOnItsArgumentAlone(t *testing.T) {
 	group.Wait()
 }
 
+// TestParseHangsOnItsArgumentsAlone: P2, in any order and many at a time.
+func TestParseHangsOnItsArgumentsAlone(t *testing.T) {
+	want := []parsed{
+		fit("A=(h1ah1bwasb*n1)", "\x02\x20\x01\x01", "([1 1])"), {"A=A", "", "", api.ErrFuel, 0}, unfit("A=/(n1'41)('42n1)", "Ax", 1),
+		fit("A=/(h1a@an1'05)(n1n1n1)", "\x02\x07\x09", "/1 (2 7 9)"), {"A=/(.A)n1", "", "", api.ErrNodes, 0}, fit("A=*(h1ara)", "\x01a\x00", `[("61") ("")]`),
+	}
+	var group sync.WaitGroup
+	for first := range want {
+		group.Go(func() {
+			for i := range 3 * len(want) {
+				wantParse(t, want[(first+i)%len(want)], api.MaxFuel, api.MaxNodes)
+			}
+		})
+	}
+	group.Wait()
+}
+
+// TestParseOfAPiece: what stands around the texts in memory is nothing to it.
+func TestParseOfAPiece(t *testing.T) {
+	grammar, bytes := "A=n1;A=(h1a*n1@a.)n1"[5:18], "\x00\x02\x03\x04"
+	wantParses(t, []parsed{
+		fit(grammar, bytes[1:3], `([3] "")`), unfit(grammar, bytes[1:2], 1), fit("A=*n1", bytes[:0], "[]"), unfit("A=n2", bytes[:1], 0),
+	})
+}
+
 // TestCheckOfAPiece: what stands around a text in memory is nothing to it.
 func TestCheckOfAPiece(t *testing.T) {
 	around := "A=n1;A=(h1ara);B=n1"

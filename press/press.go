@@ -14,7 +14,14 @@ func Check(grammar string) (api.Errno, int) {
 
 // Parse makes a tree of bytes (P4).
 func Parse(grammar string, bytes string, fuel int, nodes int) (string, api.Errno, int) {
-	return "", api.OK, 0
+	g, e, place := syntax.Read(grammar)
+	if e != api.OK {
+		return "", e, place
+	}
+	if len(bytes) > api.MaxBytes || !isBudget(fuel, api.MaxFuel) || !isBudget(nodes, api.MaxNodes) {
+		return "", api.ErrBudget, 0
+	}
+	return parse(g, bytes, fuel, nodes)
 }
 
 // Generate makes bytes of a tree (P5).

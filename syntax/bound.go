@@ -2,8 +2,8 @@ package syntax
 
 // scope is what stood so far in one struct.
 type scope struct {
-	hidden [dependencies]*Part // the first hidden part of each d
-	used   [dependencies]bool
+	hidden [Dependencies]*Part // the first hidden part of each d
+	used   [Dependencies]bool
 }
 
 // binder keeps the first wrong place. That a hidden part is used by none is

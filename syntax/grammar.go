@@ -7,7 +7,9 @@ const (
 	lastRule        = firstRule + api.MaxRules - 1
 	firstDependency = 'a'
 	lastDependency  = 'h'
-	dependencies    = lastDependency - firstDependency + 1
+
+	// Dependencies is how many letters there are for a dependency.
+	Dependencies = lastDependency - firstDependency + 1
 )
 
 // Grammar is a grammar's rules, in the order of its text.
@@ -31,7 +33,18 @@ type Part struct {
 	DependencyPlace int
 	Value           byte    // the byte of a fixed part
 	Rule            int     // the number of the rule that a rule part names
+	Silent          bool    // a struct's part itself that has no value there
 	Parts           []*Part // the parts that it holds
+}
+
+// PartOf is the part of the rule with this number, nil if there is no such rule.
+func (g *Grammar) PartOf(rule int) *Part {
+	for _, r := range g.Rules {
+		if r.Number == rule {
+			return r.Part
+		}
+	}
+	return nil
 }
 
 // Read makes a grammar of its text, or tells the error and its place.

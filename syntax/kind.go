@@ -20,7 +20,7 @@ const (
 	AtPart
 	SummedPart
 	RestPart
-	kinds // how many kinds there are
+	Kinds // how many kinds there are
 )
 
 // upToBracket stands in a shape for one or more parts and the bracket that ends them.
@@ -35,7 +35,7 @@ type shape struct {
 	parts       int  // how many parts follow
 }
 
-var shapes = [kinds]shape{
+var shapes = [Kinds]shape{
 	NumberPart:    {first: 'n', last: 'n', width: true},
 	LowNumberPart: {first: 'l', last: 'l', width: true},
 	FixedPart:     {first: '\'', last: '\'', value: true},
@@ -69,6 +69,11 @@ func (k Kind) isHidden() bool {
 
 func (k Kind) usesDependency() bool {
 	return shapes[k].dependency && !k.isHidden()
+}
+
+// isSilent: one of a struct's parts itself, if it is of such a kind, has no value there.
+func (k Kind) isSilent() bool {
+	return k == FixedPart || k.isHidden()
 }
 
 // keepsStruct: what such a part holds stands in the same struct as the part itself.

@@ -144,6 +144,8 @@ func (r *reader) partsUpToBracket(p *Part) bool {
 		if !r.innerPart(p) {
 			return false
 		}
+		inner := p.Parts[len(p.Parts)-1]
+		inner.Silent = inner.Kind.isSilent()
 		if r.takeJust(')') {
 			return true
 		}

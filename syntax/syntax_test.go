@@ -21,6 +21,9 @@ func told(p *Part) string {
 	add("d at", p.DependencyPlace)
 	add("value", int(p.Value))
 	add("rule", p.Rule)
+	if p.Silent {
+		words = append(words, "silent")
+	}
 	for _, inner := range p.Parts {
 		words = append(words, "{"+told(inner)+"}")
 	}
@@ -32,13 +35,14 @@ func TestReadTellsTheParts(t *testing.T) {
 		"A=n2":            "0 at 2 W 2",
 		"A=l4":            "1 at 2 W 4",
 		"A='a9":           "2 at 2 value 169",
+		"A=('01*'02)":     "3 at 2 {2 at 3 value 1 silent} {5 at 6 {2 at 7 value 2}}",
 		"A=(n1.)":         "3 at 2 {0 at 3 W 1} {14 at 5}",
 		"A=/n1*l2":        "4 at 2 {0 at 3 W 1} {5 at 5 {1 at 6 W 2}}",
 		"A=H;H=n1":        "6 at 2 rule 7",
-		"A=(h3brb)":       "3 at 2 {7 at 3 W 3 d 1 d at 5} {9 at 6 d 1 d at 7}",
-		"A=(k1hth.)":      "3 at 2 {8 at 3 W 1 d 7 d at 5} {10 at 6 d 7 d at 7 {14 at 8}}",
-		"A=(h1ah1bwa@b.)": "3 at 2 {7 at 3 W 1 d at 5} {7 at 6 W 1 d 1 d at 8} {11 at 9 d at 10 {12 at 11 d 1 d at 12 {14 at 13}}}",
-		"A=(h1csc'00)":    "3 at 2 {7 at 3 W 1 d 2 d at 5} {13 at 6 d 2 d at 7 {2 at 8}}",
+		"A=(h3brb)":       "3 at 2 {7 at 3 W 3 d 1 d at 5 silent} {9 at 6 d 1 d at 7}",
+		"A=(k1hth.)":      "3 at 2 {8 at 3 W 1 d 7 d at 5 silent} {10 at 6 d 7 d at 7 {14 at 8}}",
+		"A=(h1ah1bwa@b.)": "3 at 2 {7 at 3 W 1 d at 5 silent} {7 at 6 W 1 d 1 d at 8 silent} {11 at 9 d at 10 {12 at 11 d 1 d at 12 {14 at 13}}}",
+		"A=(h1csc'00)":    "3 at 2 {7 at 3 W 1 d 2 d at 5 silent} {13 at 6 d 2 d at 7 {2 at 8}}",
 	} {
 		g, e, place := Read(text)
 		if e != api.OK || place != 0 {
@@ -60,6 +64,18 @@ func TestReadTellsTheRules(t *testing.T) {
 		if r := g.Rules[i]; r.Number != want.Number || r.Place != want.Place || r.Part.Place != want.Place+2 {
 			t.Errorf("rule %d: %v", i, r)
 		}
+	}
+}
+
+func TestPartOf(t *testing.T) {
+	g, _, _ := Read("A=C;C=n1;B=A")
+	for rule, place := range []int{2, 11, 6} {
+		if p := g.PartOf(rule); p == nil || p.Place != place {
+			t.Errorf("PartOf(%d) = %v, want the one at %d", rule, p, place)
+		}
+	}
+	if p := g.PartOf(3); p != nil {
+		t.Errorf("PartOf(3) = %v, want none", p)
 	}
 }
 
