@@ -16,6 +16,23 @@ func TestNumbers(t *testing.T) {
 		if high, low := highestFirst(bytes), lowestFirst(bytes); high != want[0] || low != want[1] {
 			t.Errorf("%q: %d and %d, want %d", bytes, high, low, want)
 		}
+		high, low := make([]byte, len(bytes)), make([]byte, len(bytes))
+		putHighestFirst(high, want[0])
+		putLowestFirst(low, want[1])
+		if string(high) != bytes || string(low) != bytes {
+			t.Errorf("%d: %q and %q, want %q", want, high, low, bytes)
+		}
+	}
+}
+
+func TestIsWithin(t *testing.T) {
+	for width := 1; width <= 4; width++ {
+		most := uint64(1)<<(8*width) - 1
+		for n, want := range map[uint64]bool{0: true, most: true, most + 1: false, 1<<63 + 1: false} {
+			if isWithin(n, width) != want {
+				t.Errorf("%d bytes for %d: %t", width, n, !want)
+			}
+		}
 	}
 }
 
@@ -38,8 +55,8 @@ func TestSum(t *testing.T) {
 
 func TestEachKindHasItsDoing(t *testing.T) {
 	for kind, d := range doings() {
-		if d.tried == nil {
-			t.Errorf("kind %d does nothing when it is tried", kind)
+		if d.tried == nil || d.has == nil || d.written == nil {
+			t.Errorf("kind %d: %v", kind, d)
 		}
 	}
 }

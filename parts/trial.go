@@ -16,14 +16,13 @@ type RunOut struct {
 
 // trial is bytes at which a grammar's parts are being tried.
 type trial struct {
-	doings  [syntax.Kinds]doing
-	grammar *syntax.Grammar
-	bytes   string
-	fuel    int    // how many more parts may be tried
-	nodes   int    // how many more values may be made
-	read    []bool // of each byte, whether it was read
-	spans   []span // what was read, in the order of reading, so that it can be undone
-	failed  int    // the greatest place at which a part failed
+	walk
+	bytes  string
+	fuel   int    // how many more parts may be tried
+	nodes  int    // how many more values may be made
+	read   []bool // of each byte, whether it was read
+	spans  []span // what was read, in the order of reading, so that it can be undone
+	failed int    // the greatest place at which a part failed
 }
 
 // span is the bytes from a place up to another.
@@ -51,12 +50,11 @@ type hiddenNumber struct {
 // and its place. It panics with a RunOut when the fuel or the values run out.
 func Parse(g *syntax.Grammar, bytes string, fuel, nodes int) (*values.Value, api.Errno, int) {
 	t := &trial{
-		doings:  doings(),
-		grammar: g,
-		bytes:   bytes,
-		fuel:    fuel,
-		nodes:   nodes,
-		read:    make([]bool, len(bytes)),
+		walk:  walkOf(g),
+		bytes: bytes,
+		fuel:  fuel,
+		nodes: nodes,
+		read:  make([]bool, len(bytes)),
 	}
 	v, _, fits := t.try(g.Rules[0].Part, spot{end: len(bytes)})
 	if !fits {

@@ -32,6 +32,8 @@ func TestNoCallPanics(t *testing.T) {
 			Parse("A=n1", text, n, n)
 			Generate(text, text, n)
 			Generate("A=n1", text, n)
+			Generate(text, "()", n)
+			Generate("A=/(*A)(h1a@aA)", text, n)
 		}
 	}
 	PackNames(nil)
@@ -105,6 +107,32 @@ func TestParseHangsOnItsArgumentsAlone(t *testing.T) {
 		})
 	}
 	group.Wait()
+}
+
+// TestGenerateHangsOnItsArgumentsAlone: P2, in any order and many at a time.
+func TestGenerateHangsOnItsArgumentsAlone(t *testing.T) {
+	want := []generated{
+		gives("A=(h1ah1bwasb*n1)", "([1 1])", "\x02\x20\x01\x01"), noValue("A=A", "5"), other("A=*A", "[]"), gives("A=(h1a@a(h1b@bn1n1)n1)", "((9 8) 7)", "\x02\x07\x04\x08\x09"),
+		{"A=(h1ara)", "(" + runOf(256) + ")", "", api.ErrWidth}, gives("A=(h1asa(h1bsbn1))", "((7))", "\xe0\x07\x07"), {"A=*('41'42)", listOf(2666, "()"), "", api.ErrFull},
+	}
+	var group sync.WaitGroup
+	for first := range want {
+		group.Go(func() {
+			for i := range 3 * len(want) {
+				wantGenerate(t, want[(first+i)%len(want)], api.MaxBytes)
+			}
+		})
+	}
+	group.Wait()
+}
+
+// TestGenerateOfAPiece: what stands around the texts in memory is nothing to it.
+func TestGenerateOfAPiece(t *testing.T) {
+	grammar, tree := "A=n1;A=*n1n1"[5:10], "[1 2] 3]"
+	wantGenerates(t, []generated{gives(grammar, tree[:5], "\x01\x02"), gives("A=n1", tree[6:7], "\x03"), noValue(grammar, tree[1:2])})
+	if _, e, place := Generate(grammar, tree[:4], 9); e != api.ErrTree || place != 4 {
+		t.Errorf("a tree that is cut: %d, %d", e, place)
+	}
 }
 
 // TestParseOfAPiece: what stands around the texts in memory is nothing to it.

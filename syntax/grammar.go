@@ -1,6 +1,9 @@
 package syntax
 
-import "press/api"
+import (
+	"press/api"
+	"press/reading"
+)
 
 const (
 	firstRule       = 'A'
@@ -52,10 +55,10 @@ func Read(text string) (*Grammar, api.Errno, int) {
 	if len(text) > api.MaxGrammar {
 		return nil, api.ErrLong, 0
 	}
-	r := &reader{text: text}
+	r := &reader{reading.Reader{Text: text}}
 	rules, ok := r.rules()
 	if !ok {
-		return nil, api.ErrForm, r.place
+		return nil, api.ErrForm, r.Place
 	}
 	g := &Grammar{Rules: rules}
 	if place, found := g.wrongRule(); found {

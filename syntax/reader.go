@@ -1,34 +1,13 @@
 package syntax
 
-import "press/api"
+import (
+	"press/api"
+	"press/reading"
+)
 
-// reader goes through a text byte by byte. It never goes past a byte that
-// cannot stand, so that after a refusal its place is the one to be told.
+// reader reads a grammar's text.
 type reader struct {
-	text  string
-	place int
-}
-
-func (r *reader) atEnd() bool {
-	return r.place == len(r.text)
-}
-
-// take goes past the next byte, if there is one between first and last.
-func (r *reader) take(first, last byte) (byte, bool) {
-	if r.atEnd() {
-		return 0, false
-	}
-	b := r.text[r.place]
-	if b < first || b > last {
-		return 0, false
-	}
-	r.place++
-	return b, true
-}
-
-func (r *reader) takeJust(b byte) bool {
-	_, ok := r.take(b, b)
-	return ok
+	reading.Reader
 }
 
 func (r *reader) rules() ([]Rule, bool) {
@@ -40,10 +19,10 @@ func (r *reader) rules() ([]Rule, bool) {
 			return nil, false
 		}
 		rules = append(rules, rule)
-		if r.atEnd() {
+		if r.AtEnd() {
 			return rules, true
 		}
-		if len(rules) == api.MaxRules || !r.takeJust(';') {
+		if len(rules) == api.MaxRules || !r.TakeJust(';') {
 			return nil, false
 		}
 		last = lastRule
@@ -52,9 +31,9 @@ func (r *reader) rules() ([]Rule, bool) {
 
 // rule reads a rule whose letter is none behind last.
 func (r *reader) rule(last byte) (Rule, bool) {
-	rule := Rule{Place: r.place}
-	letter, ok := r.take(firstRule, last)
-	if !ok || !r.takeJust('=') {
+	rule := Rule{Place: r.Place}
+	letter, ok := r.Take(firstRule, last)
+	if !ok || !r.TakeJust('=') {
 		return rule, false
 	}
 	rule.Number = int(letter - firstRule)
@@ -63,16 +42,16 @@ func (r *reader) rule(last byte) (Rule, bool) {
 }
 
 func (r *reader) part() (*Part, bool) {
-	if r.atEnd() {
+	if r.AtEnd() {
 		return nil, false
 	}
-	sign := r.text[r.place]
+	sign := r.Text[r.Place]
 	kind, ok := kindOf(sign)
 	if !ok {
 		return nil, false
 	}
-	p := &Part{Kind: kind, Place: r.place}
-	r.place++
+	p := &Part{Kind: kind, Place: r.Place}
+	r.Place++
 	if kind == RulePart {
 		p.Rule = int(sign - firstRule)
 	}
@@ -102,35 +81,22 @@ func (r *reader) tail(p *Part, s shape) bool {
 }
 
 func (r *reader) width(p *Part) bool {
-	digit, ok := r.take('1', '4')
+	digit, ok := r.Take('1', '4')
 	p.Width = int(digit - '0')
 	return ok
 }
 
 func (r *reader) dependency(p *Part) bool {
-	p.DependencyPlace = r.place
-	letter, ok := r.take(firstDependency, lastDependency)
+	p.DependencyPlace = r.Place
+	letter, ok := r.Take(firstDependency, lastDependency)
 	p.Dependency = int(letter - firstDependency)
 	return ok
 }
 
 func (r *reader) value(p *Part) bool {
-	high, ok := r.digit()
-	if !ok {
-		return false
-	}
-	low, ok := r.digit()
-	p.Value = high*16 + low
+	var ok bool
+	p.Value, ok = r.TwoDigits()
 	return ok
-}
-
-// digit reads a digit to the base 16; great letters are none.
-func (r *reader) digit() (byte, bool) {
-	if b, ok := r.take('0', '9'); ok {
-		return b - '0', true
-	}
-	b, ok := r.take('a', 'f')
-	return b - 'a' + 10, ok
 }
 
 func (r *reader) innerPart(p *Part) bool {
@@ -146,7 +112,7 @@ func (r *reader) partsUpToBracket(p *Part) bool {
 		}
 		inner := p.Parts[len(p.Parts)-1]
 		inner.Silent = inner.Kind.isSilent()
-		if r.takeJust(')') {
+		if r.TakeJust(')') {
 			return true
 		}
 	}

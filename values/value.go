@@ -1,4 +1,4 @@
-// Package values has the values of which a tree is made, and writes a tree's text.
+// Package values has the values of which a tree is made; it writes and reads a tree's text.
 package values
 
 // Kind says which of the document's values a value is.
