@@ -38,6 +38,12 @@ func TestNoCallPanics(t *testing.T) {
 	}
 	PackNames(nil)
 	PackNames(make([]string, 1000))
+	PackNames(oddTexts()[:40])
+	PackNames(oddTexts())
+	for b := range 65536 {
+		UnpackNames(string([]byte{1, 'a', 0, byte(b / 256), byte(b)}))
+		UnpackNames(strings.Repeat(string([]byte{byte(b / 256), byte(b)}), 2000))
+	}
 }
 
 // TestCheckAtEveryCut: a grammar that is cut, with any byte behind the cut.
@@ -151,27 +157,74 @@ func TestCheckOfAPiece(t *testing.T) {
 
 // TestListsAreLeftAlone: P2, what is handed in and its spare room.
 func TestListsAreLeftAlone(t *testing.T) {
-	room := []string{"a.b", "c.b", "b", "spare", "room"}
+	room := []string{"a.b", "c.b", "b", "spare", "room", "no name", ""}
 	before := slices.Clone(room)
-	PackNames(room[:3])
-	PackNames(room[:0])
-	if !slices.Equal(room, before) {
-		t.Errorf("PackNames left %q of %q", room, before)
+	for length := range room {
+		PackNames(room[:length])
+		if !slices.Equal(room, before) {
+			t.Fatalf("PackNames of %d left %q of %q", length, room, before)
+		}
+	}
+	for _, length := range []int{40, 41} {
+		list := slices.Repeat([]string{"a.b"}, 50)
+		PackNames(list[:length])
+		if !slices.Equal(list, slices.Repeat([]string{"a.b"}, 50)) {
+			t.Errorf("PackNames of %d left %q", length, list)
+		}
 	}
 }
 
-// TestAnswersAreTheCallers: P2, who may write into what comes out.
+// TestListsAreNotKept: P2, what becomes of a list later is nothing to an answer.
+func TestListsAreNotKept(t *testing.T) {
+	list := []string{"a.b", "c.b", "b"}
+	bytes, _ := PackNames(list)
+	list[0], list[1] = "b", "b"
+	if bytes != "\x01a\x01b\x00\x01c\xc0\x02\xc0\x02" {
+		t.Errorf("the answer became %q", bytes)
+	}
+	wantPacked(t, list, "\x01b\x00\xc0\x00\xc0\x00", api.OK)
+}
+
+// TestAnswersAreTheCallers: P2, who may write into what comes out, and into its
+// spare room.
 func TestAnswersAreTheCallers(t *testing.T) {
-	const packed = "\x01a\x01b\x00\x01c\xc0\x02\xc0\x02"
-	first, _, _ := UnpackNames(packed)
-	want := slices.Clone(first)
-	first = first[:cap(first)]
-	second, _, _ := UnpackNames(packed)
-	for i := range first {
-		first[i] = "written"
+	for count := range 41 {
+		packed, want := strings.Repeat("\x01a\x00", count), slices.Repeat([]string{"a"}, count)
+		first, _, _ := UnpackNames(packed)
+		second, _, _ := UnpackNames(packed)
+		first = first[:cap(first)]
+		for i := range first {
+			first[i] = "written"
+		}
+		if !slices.Equal(second, want) || slices.Contains(second[:cap(second)], "written") {
+			t.Errorf("UnpackNames answered %q for %q", second[:cap(second)], want)
+		}
+		wantUnpacked(t, packed, want)
 	}
-	third, _, _ := UnpackNames(packed)
-	if !slices.Equal(second, want) || !slices.Equal(third, want) {
-		t.Errorf("UnpackNames answered %q, then %q and %q", want, second, third)
+}
+
+// TestNamesHangOnTheirArgumentAlone: P2, in any order and many at a time.
+func TestNamesHangOnTheirArgumentAlone(t *testing.T) {
+	lists := [][]string{{"a.b", "c.b", "b"}, {"b"}, {"b", "a.b", "x.a.b"}, {"c.b", "a.b"}}
+	packed := []string{"\x01a\x01b\x00\x01c\xc0\x02\xc0\x02", "\x01b\x00", "\x01b\x00\x01a\xc0\x00\x01x\xc0\x03", "\x01c\x01b\x00\x01a\xc0\x02"}
+	var group sync.WaitGroup
+	for first := range lists {
+		group.Go(func() {
+			for i := range 100 * len(lists) {
+				wantBothWays(t, lists[(first+i)%len(lists)], packed[(first+i)%len(lists)])
+				wantPacked(t, []string{"b", "."}, "", api.ErrName)
+				wantNoNames(t, "\x01b\x00\xc0\x03", 3)
+			}
+		})
 	}
+	group.Wait()
+}
+
+// TestUnpackOfAPiece: what stands around the bytes in memory is nothing to it.
+func TestUnpackOfAPiece(t *testing.T) {
+	around := "\x01a\x00\x01b\x00\xc0\x00\x01c\x00"
+	wantUnpacked(t, around[3:8], []string{"b", "b"})
+	wantNoNames(t, around[3:5], 0)
+	wantNoNames(t, around[:7], 6)
+	wantNoNames(t, around[6:], 0)
 }

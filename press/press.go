@@ -3,6 +3,7 @@ package press
 
 import (
 	"press/api"
+	"press/labels"
 	"press/parts"
 	"press/syntax"
 	"press/values"
@@ -51,7 +52,11 @@ func Generate(grammar string, tree string, most int) (string, api.Errno, int) {
 }
 
 // PackNames packs names (P6).
-func PackNames(names []string) (string, api.Errno) { return "", api.OK }
+func PackNames(names []string) (string, api.Errno) {
+	return labels.Pack(names)
+}
 
 // UnpackNames reads packed names (P7).
-func UnpackNames(bytes string) ([]string, api.Errno, int) { return nil, api.OK, 0 }
+func UnpackNames(bytes string) ([]string, api.Errno, int) {
+	return labels.Unpack(bytes)
+}
